@@ -13,6 +13,10 @@ def overlap(one, next_one):
     return 0
 
 
+def beyond(last, word):
+    return word[overlap(last, word):]
+
+
 def check_order(book, order):
     # No number stands in an error's words: Python doesn't write out very great ones.
     if len(order) == 0:
@@ -32,6 +36,6 @@ def laid(book, order):
     for number in order[1:]:
         word = book[number]
         # The overlap is that with the last word, even where the text's own would be greater.
-        text += word[overlap(last, word):]
+        text += beyond(last, word)
         last = word
     return text

@@ -17,9 +17,17 @@ def is_word(text):
     return all([is_small_letter(sign) for sign in text])
 
 
+def has_book_size(book):
+    return 1 <= len(book) <= MOST_WORDS
+
+
+def is_book(book):
+    return has_book_size(book) and all([is_word(word) for word in book])
+
+
 def check_book(book):
     # BadBook goes ahead of BadWord, so the words are counted before any is looked at.
-    if not 1 <= len(book) <= MOST_WORDS:
+    if not has_book_size(book):
         raise BadBook(f"a book has 1 to {MOST_WORDS} words")
     for word in book:
         if not is_word(word):

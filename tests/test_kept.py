@@ -1,22 +1,8 @@
-import itertools
 import unittest
 
 from laidwords.words import kept
 
-
-def parts(word):
-    return {word[begin:end] for begin in range(len(word)) for end in range(begin + 1, len(word) + 1)}
-
-
-def kept_by_parts(book):
-    """The kept words, told by the parts of each word rather than by a search."""
-    first = {}
-    for number, word in enumerate(book):
-        first.setdefault(word, number)
-    held = set()
-    for word in first:
-        held |= parts(word) - {word}
-    return sorted(number for word, number in first.items() if word not in held)
+from reckoned import all_books, all_words, kept_by_parts
 
 
 class Kept(unittest.TestCase):
@@ -61,14 +47,13 @@ class Kept(unittest.TestCase):
         self.told((["ab", "cd", "bc"], [0, 1, 2]), (["abc", "cde", "bcd"], [0, 1, 2]))
 
     def test_all_books_of_short_words(self):
-        words = ["".join(signs) for size in (1, 2, 3) for signs in itertools.product("ab", repeat=size)]
         for size in (1, 2, 3):
-            for book in itertools.product(words, repeat=size):
-                self.assertEqual(kept(list(book)), kept_by_parts(list(book)), book)
+            for book in all_books(all_words("ab", 3), size):
+                self.assertEqual(kept(book), kept_by_parts(book), book)
 
     def test_all_books_of_six_words_out_of_three(self):
-        for book in itertools.product(("a", "ab", "ba"), repeat=6):
-            self.assertEqual(kept(list(book)), kept_by_parts(list(book)), book)
+        for book in all_books(["a", "ab", "ba"], 6):
+            self.assertEqual(kept(book), kept_by_parts(book), book)
 
     def test_the_book_is_unchanged(self):
         for book in (["ab", "b", "ab"], ["b", "ab"], ["ab"], ["fa", "ef", "de", "cd", "bc", "ab"]):

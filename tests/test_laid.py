@@ -3,19 +3,7 @@ import unittest
 
 from laidwords.laying import laid
 
-
-def beyond(last, word):
-    """What a word has beyond its overlap with the word laid ahead of it."""
-    for begin in range(1, len(last)):
-        end = last[begin:]
-        if len(end) < len(word) and word.startswith(end):
-            return word[len(end):]
-    return word
-
-
-def laid_by_pairs(book, order):
-    words = [book[number] for number in order]
-    return words[0] + "".join(beyond(last, word) for last, word in zip(words, words[1:]))
+from reckoned import all_books, all_words, laid_by_pairs
 
 
 def all_orders(size):
@@ -78,9 +66,8 @@ class Laid(unittest.TestCase):
                 self.assertEqual(laid(book, order), laid_by_pairs(book, order), (book, order))
 
     def test_all_pairs_of_short_words(self):
-        words = ["".join(signs) for size in (1, 2, 3, 4) for signs in itertools.product("ab", repeat=size)]
-        for book in itertools.product(words, repeat=2):
-            self.assertEqual(laid(list(book), [0, 1]), laid_by_pairs(book, [0, 1]), book)
+        for book in all_books(all_words("ab", 4), 2):
+            self.assertEqual(laid(book, [0, 1]), laid_by_pairs(book, [0, 1]), book)
 
     def test_book_and_order_are_unchanged(self):
         for order in ([0], [2, 0], [2, 1, 0]):

@@ -1,20 +1,8 @@
-import itertools
 import unittest
 
 from laidwords.laying import overlap
 
-
-def texts(letters, most):
-    return ["".join(signs) for size in range(1, most + 1) for signs in itertools.product(letters, repeat=size)]
-
-
-def ends_that_begin(one, next_one):
-    """The numbers of letters that fit, told letter by letter."""
-    found = []
-    for size in range(1, min(len(one), len(next_one))):
-        if all(one[len(one) - size + k] == next_one[k] for k in range(size)):
-            found.append(size)
-    return found
+from reckoned import all_words, ends_that_begin
 
 
 class Overlap(unittest.TestCase):
@@ -73,7 +61,7 @@ class Overlap(unittest.TestCase):
         self.told(("a" * 61, "a" * 61, 60), ("a" * 75 + "b", "b" + "c" * 80, 1), ("ab" * 40, "ab" * 40, 78))
 
     def test_all_short_texts(self):
-        for pool in (texts("ab", 5), texts("abc", 3)):
+        for pool in (all_words("ab", 5), all_words("abc", 3)):
             for one in pool:
                 for next_one in pool:
                     wanted = max(ends_that_begin(one, next_one), default=0)

@@ -1,8 +1,11 @@
 import string
 import unittest
 
-from laidwords.errors import BadBook, BadOrder, BadWord
+from laidwords.errors import BadBook, BadNote, BadOrder, BadWord, LayError
+from laidwords.greedy import greedy
 from laidwords.laying import laid
+from laidwords.notes import shown
+from laidwords.shortest import all_shortest, heights, shortest
 from laidwords.words import kept, places
 
 # Every call that takes a book, with all else that it takes as it should be.
@@ -13,6 +16,11 @@ CALLS = {
     "laid": lambda book: laid(book, [0]),
     "laid in no order": lambda book: laid(book, []),
     "laid beyond the book": lambda book: laid(book, [0, 99]),
+    "heights": lambda book: heights(book),
+    "shortest": lambda book: shortest(book),
+    "all_shortest": lambda book: all_shortest(book),
+    "greedy": lambda book: greedy(book),
+    "shown": lambda book: shown(book),
 }
 # The signs next to a and z, other kinds of signs, and letters beyond a to z that count as small.
 NO_LETTERS = ["`", "{", "A", "Z", "M", "0", "9", " ", "\n", "\t", "\r", "-", "_", "%", ".", "\0", "~", "\x7f",
@@ -26,6 +34,9 @@ class Refusals(unittest.TestCase):
         with self.assertRaises(ValueError) as taken:
             call(*handed_in)
         self.assertIs(type(taken.exception), wanted)
+        self.assertIsInstance(taken.exception, LayError)
+        for other in (BadBook, BadWord, BadOrder, BadNote):
+            self.assertEqual(isinstance(taken.exception, other), other is wanted)
         self.assertEqual([list(each) for each in handed_in], before)
 
     def refused_by_all(self, wanted, book):
@@ -140,11 +151,19 @@ class BadOrders(Refusals):
 
 
 class NothingRefusedWhereAllIsWell(unittest.TestCase):
+    def told_by_all_of_one_word(self, word):
+        self.assertEqual(heights([word]), [(((0,), 0), 0)])
+        self.assertEqual(all_shortest([word]), [word])
+        self.assertEqual(shortest([word]), word)
+        self.assertEqual(greedy([word]), word)
+        self.assertEqual(shown([word]), word + "\n")
+
     def test_each_small_letter(self):
         for letter in string.ascii_lowercase:
             self.assertEqual(kept([letter]), [0])
             self.assertEqual(places([letter], letter), [[0]])
             self.assertEqual(laid([letter], [0]), letter)
+            self.told_by_all_of_one_word(letter)
 
     def test_words_of_one_to_ten_letters(self):
         for size in range(1, 11):
@@ -152,6 +171,7 @@ class NothingRefusedWhereAllIsWell(unittest.TestCase):
             self.assertEqual(kept([word]), [0])
             self.assertEqual(places([word], "z" + word), [[1]])
             self.assertEqual(laid([word], [0]), word)
+            self.told_by_all_of_one_word(word)
 
     def test_books_of_one_to_six_words(self):
         for size in range(1, 7):
@@ -160,11 +180,21 @@ class NothingRefusedWhereAllIsWell(unittest.TestCase):
             self.assertEqual(places(book, "uvwxyz"), [[k] for k in range(size)])
             self.assertEqual(laid(book, list(range(size))), "uvwxyz"[:size])
             self.assertEqual(laid(book, [size - 1]), book[-1])
+            self.assertEqual(len(heights(book)), size * 2 ** (size - 1))
+            self.assertEqual(shortest(book), "uvwxyz"[:size])
+            self.assertEqual(all_shortest(book)[-1], "uvwxyz"[:size][::-1])
+            self.assertEqual(greedy(book), "uvwxyz"[:size])
+            self.assertEqual(shown(book), "".join(word + "\n" for word in book))
 
     def test_books_of_six_words_alike(self):
         self.assertEqual(kept(["az"] * 6), [0])
         self.assertEqual(places(["az"] * 6, "az"), [[0]] * 6)
         self.assertEqual(laid(["az"] * 6, [5, 4, 3, 2, 1, 0]), "az" * 6)
+        self.assertEqual(heights(["az"] * 6), [(((0,), 0), 0)])
+        self.assertEqual(shortest(["az"] * 6), "az")
+        self.assertEqual(all_shortest(["az"] * 6), ["az"])
+        self.assertEqual(greedy(["az"] * 6), "az")
+        self.assertEqual(shown(["az"] * 6), "az\n" * 6)
 
 
 if __name__ == "__main__":
